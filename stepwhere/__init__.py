@@ -1,0 +1,1 @@
+"""Stepwhere: generators over context variables, alike for every program that steps them."""
