@@ -1,7 +1,9 @@
 """Books and odd values that several tests share."""
 
+from stepwhere.booktexts import read_book
 from stepwhere.errors import BadBook
 from stepwhere.pieces import is_book, need_book
+from stepwhere.rooms import Room
 
 VARS = ("x", "y", "z")
 HUGE = int("9" * 4000)
@@ -121,3 +123,8 @@ def odd_tuples():
         deep_tuple(20000), (deep_statement(20000),), (doubled_statement(200),), doubled_tuple(200),
         (("fail",),) * 50000, ("x",) * 50000, (None,) * 50000, (Hostile(),) * 50000,
     ]
+
+
+def piece_room(rows, params=""):
+    """A room of a book with the variables x, y, z and a piece "p" of these rows, told as text."""
+    return Room(read_book("vars x y z; piece p " + params + " { " + rows + " }"))

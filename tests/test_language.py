@@ -59,6 +59,8 @@ def bound_names(tree):
             yield node.arg
         elif isinstance(node, ast.alias):
             yield node.asname or node.name
+        elif isinstance(node, ast.ExceptHandler) and node.name is not None:
+            yield node.name
         elif isinstance(node, ast.Name) and not isinstance(node.ctx, ast.Load):
             yield node.id
 
@@ -134,6 +136,25 @@ class TestLanguage(unittest.TestCase):
         for name, node in self.nodes(ast.Constant):
             self.assertNotIsInstance(node.value, (float, complex), name)
 
+    def test_l5_l18_classes(self):
+        for name, node in self.nodes(ast.ClassDef):
+            methods = [part.name for part in node.body if isinstance(part, ast.FunctionDef)]
+            self.assertEqual(len(methods), len(set(methods)), node.name)
+            stored = [part.attr for part in ast.walk(node) if isinstance(part, ast.Attribute)
+                      and isinstance(part.ctx, ast.Store) and isinstance(part.value, ast.Name)]
+            self.assertEqual(set(methods) & set(stored), set(), node.name)
+            self.assertNotIn("args", list(bound_names(node)), node.name)
+
+    def test_l6_rows_of_exit_and_finally(self):
+        for name, node in self.nodes(ast.Try):
+            self.assertEqual(node.finalbody, [], name)
+        for name, node in self.nodes(ast.FunctionDef):
+            if node.name == "__exit__":
+                for row in node.body:
+                    self.assertIsInstance(row, ast.Assign)
+                    self.assertIsInstance(row.targets[0], ast.Attribute)
+                    self.assertIsInstance(row.value, (ast.Attribute, ast.Constant))
+
     def test_l8_l15_builtins(self):
         every = set(dir(builtins))
         for name, tree in self.trees.items():
@@ -163,6 +184,17 @@ class TestLanguage(unittest.TestCase):
                 self.assertIn(kind.id, named, name)
         for name, node in self.nodes(ast.Raise):
             self.assertIsInstance(node.exc, (ast.Call, type(None)), name)
+
+    def test_l20_is(self):
+        for name, node in self.nodes(ast.Compare):
+            for sign, thing in zip(node.ops, node.comparators):
+                if isinstance(sign, (ast.Is, ast.IsNot)):
+                    is_self = isinstance(node.left, ast.Name) and node.left.id == "self"
+                    self.assertTrue(is_self or isinstance(thing, ast.Constant), (name, node.lineno))
+
+    def test_l23_no_generators(self):
+        for name, node in self.nodes((ast.Yield, ast.YieldFrom, ast.GeneratorExp)):
+            self.fail((name, node.lineno))
 
     def test_l25_methods(self):
         own = {node.name for _, node in self.nodes(ast.FunctionDef)}
