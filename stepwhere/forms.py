@@ -51,9 +51,14 @@ def are_names(thing):
     return isinstance(thing, tuple) and all([is_name(part) for part in thing])
 
 
+def is_integer(thing):
+    """Whether thing is an integer; True and False are none."""
+    return isinstance(thing, int) and not isinstance(thing, bool)
+
+
 def is_number(thing, most):
-    """Whether thing is an integer from 0 to most; True and False are none."""
-    return isinstance(thing, int) and not isinstance(thing, bool) and 0 <= thing <= most
+    """Whether thing is an integer from 0 to most."""
+    return is_integer(thing) and 0 <= thing <= most
 
 
 def is_tuple(thing, count):

@@ -4,6 +4,7 @@ A room is passed to it, in which the statements do what they do.
 """
 
 from stepwhere.errors import Fails
+from stepwhere.forms import blocks_of
 
 FRESH = "fresh"
 STANDS = "stands"
@@ -11,14 +12,34 @@ OVER = "over"
 
 
 class Frame:
-    """A block that has begun and not ended, and what its end or a failure in it asks for."""
+    """A block that has begun and not ended, and what its end or a failure in it asks for.
 
-    def __init__(self, block, token=None, rescue=None, is_loop=False):
+    The way leads to the block, word is that of the statement around it (of none for the outermost one).
+    """
+
+    def __init__(self, block, way, word="", token=None, rescue=None):
         self.block = block
+        self.way = way
+        self.word = word
         self.at = 0
         self.token = token
         self.rescue = rescue
-        self.is_loop = is_loop
+
+
+def frames_at(block, way):
+    """The frames, from without inward, of a piece that stands at the yield to which way leads, without their tokens."""
+    frames = [Frame(block, ())]
+    for deep in range(1, len(way), 2):
+        outer = frames[-1]
+        outer.at = way[deep - 1] + 1
+        statement = outer.block[way[deep - 1]]
+        blocks = blocks_of(statement)
+        inner = Frame(blocks[way[deep]], way[:deep + 1], statement[0])
+        if inner.word == "guard" and way[deep] == 0:
+            inner.rescue = blocks[1]
+        frames.append(inner)
+    frames[-1].at = way[-1] + 1
+    return frames
 
 
 def value_of(room, source):
@@ -69,35 +90,39 @@ def do_within(machine, room, statement):
     _, slot, block = statement
     with room.within(held_by(machine, slot)):
         # No yield and no leave leads out of this block: it ends or fails within this very step.
-        end = Machine(block, machine.slots).take_step(room)
+        inner = Machine(block, machine.slots, machine.here() + (0,))
+        end = inner.take_step(room)
+        machine.begun.extend(inner.begun)
         if end[0] == "failed":
             raise Fails(end[1])
 
 
 def do_if(machine, room, statement):
     _, variable, number, block, other = statement
-    has_it = variable in room.now and room.now[variable] == number
-    machine.frames.append(Frame(block if has_it else other))
+    if room.has_value(variable, number):
+        machine.frames.append(Frame(block, machine.here() + (0,), "if"))
+    else:
+        machine.frames.append(Frame(other, machine.here() + (1,), "if"))
 
 
 def do_with(machine, room, statement):
     _, variable, source, block = statement
     token = room.hold(variable, value_of(room, source))
-    machine.frames.append(Frame(block, token=token))
+    machine.frames.append(Frame(block, machine.here() + (0,), "with", token=token))
 
 
 def do_guard(machine, room, statement):
     _, block, rescue = statement
-    machine.frames.append(Frame(block, rescue=rescue))
+    machine.frames.append(Frame(block, machine.here() + (0,), "guard", rescue=rescue))
 
 
 def do_loop(machine, room, statement):
-    machine.frames.append(Frame(statement[1], is_loop=True))
+    machine.frames.append(Frame(statement[1], machine.here() + (0,), "loop"))
 
 
 def do_leave(machine, room, statement):
     frame = machine.frames.pop()
-    while not frame.is_loop:
+    while frame.word != "loop":
         shut(room, frame)
         frame = machine.frames.pop()
 
@@ -128,21 +153,25 @@ class Machine:
     """A block that is run step by step, and the slots that its statements use.
 
     How a step or a closing ends is told as an event: ("yielded",), ("ended",), ("closed",) or ("failed", WORD).
+    The ways in begun lead to the statements that were begun in the last turn.
     """
 
-    def __init__(self, block, slots):
+    def __init__(self, block, slots, way=()):
         self.phase = FRESH
         self.slots = slots
-        self.frames = [Frame(block)]
+        self.frames = [Frame(block, way)]
+        self.begun = []
 
     def take_step(self, room):
         """One step, in the current context of the room."""
+        self.begun = []
         if self.phase == OVER:
             return ("failed", "over")
         return self.go_on(room, None)
 
     def take_close(self, room):
         """One closing, in the current context of the room; the frame of a fresh piece asks for nothing."""
+        self.begun = []
         while self.frames:
             frame = self.frames.pop()
             try:
@@ -170,7 +199,13 @@ class Machine:
         if frame.at == len(frame.block):
             return None
         frame.at += 1
+        self.begun.append(self.here())
         return frame.block[frame.at - 1]
+
+    def here(self):
+        """The way to the statement that was begun last in the innermost block."""
+        frame = self.frames[-1]
+        return frame.way + (frame.at - 1,)
 
     def failure_of(self, room, statement):
         """Does a statement, or ends a block: the word of a failure which no guard took, or None."""
@@ -187,7 +222,7 @@ class Machine:
     def end_block(self, room):
         """The innermost block is at its end: that of a loop begins again."""
         frame = self.frames[-1]
-        if frame.is_loop:
+        if frame.word == "loop":
             frame.at = 0
         else:
             self.frames.pop()
@@ -198,7 +233,7 @@ class Machine:
         while self.frames:
             frame = self.frames.pop()
             if frame.rescue is not None:
-                self.frames.append(Frame(frame.rescue))
+                self.frames.append(Frame(frame.rescue, frame.way[:-1] + (1,), "guard"))
                 return None
             try:
                 shut(room, frame)

@@ -128,15 +128,32 @@ def is_book(thing):
     return fault_of(thing) is None
 
 
-def piece_of(book, name):
-    """The piece of the book that is called name."""
-    need_book(book)
+def find_piece(book, name):
+    """The piece that is called name, of what is known to be a book, or None."""
     # What is no string may have an == that fails: it is not compared.
     if isinstance(name, str):
         for piece in book[1]:
             if piece[0] == name:
                 return piece
-    raise BadQuestion("no piece of the book has this name")
+    return None
+
+
+def piece_called(book, name):
+    """The piece that is called name, of what is known to be a book."""
+    piece = find_piece(book, name)
+    if piece is None:
+        raise BadQuestion("no piece of the book has this name")
+    return piece
+
+
+def piece_of(book, name):
+    """The piece of the book that is called name."""
+    return piece_called(need_book(book), name)
+
+
+def kinds_of(piece):
+    """The kinds of the params of a piece, in their order."""
+    return [kind for slot, kind in piece[1]]
 
 
 def statements_in(block, way):

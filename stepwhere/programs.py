@@ -2,7 +2,7 @@
 
 from stepwhere.errors import BadProgram
 from stepwhere.forms import is_step, parts_of_step, program_of
-from stepwhere.pieces import need_book
+from stepwhere.pieces import kinds_of, need_book
 
 MOST_DEEP = 12
 SLOT_KINDS = ("context", "token", "piece")
@@ -14,7 +14,7 @@ class ProgramCheck:
     def __init__(self, book):
         variables, pieces = book
         self.variables = variables
-        self.params = {name: [kind for slot, kind in params] for name, params, block in pieces}
+        self.params = {piece[0]: kinds_of(piece) for piece in pieces}
         self.kinds = {}
         self.calls = 0
 

@@ -45,6 +45,11 @@ class Reader:
         """The next word, which must be this one."""
         return self.take(self.peek() == word)
 
+    def take_end(self):
+        """Refuses the next word if there is one."""
+        if self.peek() != "":
+            raise BadText(self.at)
+
     def take_name(self):
         """The next word, which must be a name."""
         return self.take(is_name(self.peek()))

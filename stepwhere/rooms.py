@@ -3,7 +3,7 @@
 from stepwhere.contexts import Context, Token
 from stepwhere.errors import BadQuestion, Fails
 from stepwhere.machine import OVER, Machine
-from stepwhere.pieces import need_book, piece_of
+from stepwhere.pieces import need_book, piece_called
 
 
 class Within:
@@ -72,6 +72,10 @@ class Room:
         """What the variable is."""
         return self.now[variable]
 
+    def has_value(self, variable, number):
+        """Whether the variable is set, and to this very number."""
+        return variable in self.now and self.now[variable] == number
+
     def show(self, variable):
         """What the variable is comes into the log."""
         self.note(("shown", variable, self.now[variable]))
@@ -109,7 +113,7 @@ class Room:
 
     def make(self, name, *rest):
         """A fresh instance of the piece called name, to which a context, a token or None is handed for each param."""
-        _, params, block = piece_of(self._book, name)
+        _, params, block = piece_called(self._book, name)
         if len(rest) != len(params):
             raise BadQuestion("there are not as many args as the piece has params")
         slots = {}

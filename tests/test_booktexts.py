@@ -4,6 +4,7 @@ import random
 import re
 import unittest
 
+import grammar
 from samples import FORMS, Hostile, VARS, around, book_of, odd_tuples, odd_values
 from stepwhere.booktexts import book_text, read_book
 from stepwhere.errors import BadBook, BadText
@@ -31,56 +32,9 @@ FORM_TEXTS = (
     "fail",
 )
 
-# The grammar of a book: what begins with ' stands for itself, what is in capitals for a class of words.
-ROWS = ("'set NAME SOURCE", "'hold NAME NAME SOURCE", "'reset NAME", "'drop NAME", "'show NAME", "'copy NAME",
-        "'within NAME block", "'if NAME INTEGER block block", "'with NAME SOURCE block", "'guard block block",
-        "'loop block", "'leave", "'yield", "'fail")
-GRAMMAR = {
-    "book": ("'vars names pieces",),
-    "names": ("", "NAME names"),
-    "pieces": ("", "'; 'piece NAME params block pieces"),
-    "params": ("", "NAME KIND params"),
-    "block": ("'{ rows '}",),
-    "rows": ("", "row more"),
-    "more": ("", "'; row more"),
-    "row": ROWS,
-}
-CLASSES = {
-    "NAME": re.compile(r"[a-z]{1,8}"),
-    "INTEGER": re.compile(r"0|[1-9][0-9]?"),
-    "SOURCE": re.compile(r"[a-z]{1,8}|0|[1-9][0-9]?"),
-    "KIND": re.compile(r"context|token"),
-}
-
-
-def opened(stacks):
-    """The stacks with a word or a class of words on top, and empty ones, that come of these."""
-    found, left = set(), list(stacks)
-    while left:
-        stack = left.pop()
-        if stack and stack[0] in GRAMMAR:
-            left.extend([tuple(way.split()) + stack[1:] for way in GRAMMAR[stack[0]]])
-        else:
-            found.add(stack)
-    return found
-
-
-def allows(top, word):
-    return word == top[1:] if top[0] == "'" else CLASSES[top].fullmatch(word) is not None
-
 
 def expected_place(text):
-    """The number of the first wrong word by the grammar, or None; all derivations are followed side by side."""
-    words = re.findall(r"[a-z0-9]+|[^ \n]", text)
-    stacks, braces = opened({("book",)}), 0
-    for number, word in enumerate(words):
-        if word == "{" and braces == 40:
-            return number
-        stacks = opened({stack[1:] for stack in stacks if stack and allows(stack[0], word)})
-        if not stacks:
-            return number
-        braces += {"{": 1, "}": -1}.get(word, 0)
-    return None if () in stacks else len(words)
+    return grammar.expected_place(text, "book")
 
 
 def place_of_text(text):

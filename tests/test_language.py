@@ -27,6 +27,8 @@ BARRED_WORDS = re.compile(
     r"\b(type|typing|typing_extensions|enum|Enum|IntEnum|StrEnum|Flag|IntFlag|Generic|Protocol|ABC|ABCMeta|namedtuple"
     r"|NamedTuple|TypedDict|TYPE_CHECKING|abstractmethod)\b|dataclass|overload|contextmanager|metaclass|Meta")
 
+BARRED_ATTRIBUTES = "args encode decode hex fromhex format keys values items sort".split()
+
 BARRED_NODES = (ast.Global, ast.AsyncFunctionDef, ast.AsyncFor, ast.AsyncWith, ast.Await, ast.Import, ast.Div)
 
 
@@ -144,6 +146,75 @@ class TestLanguage(unittest.TestCase):
                       and isinstance(part.ctx, ast.Store) and isinstance(part.value, ast.Name)]
             self.assertEqual(set(methods) & set(stored), set(), node.name)
             self.assertNotIn("args", list(bound_names(node)), node.name)
+
+    def test_l18_names_of_methods_and_attributes(self):
+        methods = {part.name for _, node in self.nodes(ast.ClassDef) for part in node.body
+                   if isinstance(part, ast.FunctionDef)}
+        stored = {node.attr for _, node in self.nodes(ast.Attribute) if isinstance(node.ctx, ast.Store)}
+        read = {node.attr for _, node in self.nodes(ast.Attribute) if isinstance(node.ctx, ast.Load)}
+        self.assertEqual(methods & stored, set())
+        self.assertEqual(read - stored - methods - ALLOWED_METHODS, set())
+
+    def test_l26_names_of_attributes(self):
+        for name, node in self.nodes(ast.Attribute):
+            if isinstance(node.ctx, ast.Store):
+                self.assertNotIn(node.attr, BARRED_ATTRIBUTES, name)
+                self.assertNotIn(node.attr, dir(str) + dir(int) + dir(dict) + dir(list) + dir(set) + dir(bytes), name)
+
+    def test_l7_stars_and_l13_lambdas(self):
+        plain = (ast.Name, ast.Attribute, ast.Constant, ast.List, ast.Tuple, ast.Lambda)
+        for name, node in self.nodes(ast.Call):
+            stars = [part for part in node.args if isinstance(part, ast.Starred)]
+            if stars:
+                behind = node.args[node.args.index(stars[0]):]
+                for part in behind:
+                    inner = part.value if isinstance(part, ast.Starred) else part
+                    self.assertIsInstance(inner, plain, (name, node.lineno))
+        for name, tree in self.trees.items():
+            lines = [node.lineno for node in ast.walk(tree) if isinstance(node, ast.Lambda)]
+            self.assertEqual(len(lines), len(set(lines)), name)
+
+    def test_l7_whole_numbers_and_l24_sets(self):
+        for name, node in self.nodes((ast.Set, ast.SetComp, ast.NamedExpr, ast.Delete)):
+            if isinstance(node, ast.Delete):
+                for target in node.targets:
+                    self.assertIsInstance(target, (ast.Subscript, ast.Name), name)
+            else:
+                self.fail((name, node.lineno))
+
+    def test_l19_one_name_for_each_handler(self):
+        for name, node in self.nodes(ast.FunctionDef):
+            told = [part.name for part in ast.walk(node) if isinstance(part, ast.ExceptHandler) and part.name]
+            self.assertEqual(len(told), len(set(told)), (name, node.name))
+            self.assertEqual(set(told) & set(inner_names(node)), set(), (name, node.name))
+
+    def test_l3_l15_tables(self):
+        for name, tree in self.trees.items():
+            tables = {}
+            for node in tree.body:
+                if isinstance(node, ast.Assign):
+                    self.assertEqual(len(node.targets), 1)
+                    self.assertIsInstance(node.targets[0], ast.Name, name)
+                    if isinstance(node.value, (ast.Dict, ast.List)):
+                        tables[node.targets[0].id] = True
+                    for part in ast.walk(node.value):
+                        self.assertNotIsInstance(part, (ast.Call, ast.Attribute), name)
+            for node in ast.walk(tree):
+                # A function out of a table is given a name before it is called.
+                if isinstance(node, ast.Call):
+                    self.assertNotIsInstance(node.func, (ast.Subscript, ast.Call), (name, node.lineno))
+                    if not (isinstance(node.func, ast.Name) and node.func.id in ("dict", "list", "len", "sorted")):
+                        for part in node.args:
+                            self.assertNotIn(getattr(part, "id", None), tables, (name, node.lineno))
+
+    def test_l23_l25_methods_are_called_where_they_stand(self):
+        methods = {part.name for _, node in self.nodes(ast.ClassDef) for part in node.body
+                   if isinstance(part, ast.FunctionDef)}
+        for name, tree in self.trees.items():
+            called = [node.func for node in ast.walk(tree) if isinstance(node, ast.Call)]
+            for node in ast.walk(tree):
+                if isinstance(node, ast.Attribute) and node.attr in methods and node not in called:
+                    self.fail((name, node.lineno, node.attr))
 
     def test_l6_rows_of_exit_and_finally(self):
         for name, node in self.nodes(ast.Try):
