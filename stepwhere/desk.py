@@ -28,7 +28,7 @@ def way_text(way):
 
 def refusal(words, parts):
     """The line for a refusal with the parts of its place."""
-    return " ".join([words, *[way_text(part) for part in parts]])
+    return " ".join([words] + [way_text(part) for part in parts])
 
 
 def event_text(event):

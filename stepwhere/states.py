@@ -72,7 +72,8 @@ class Layout:
         self.by_way = {}
         self.by_number = {}
         block = piece[2]
-        for way in [None] + [way for way, statement in statements_in(block, ()) if statement == ("yield",)]:
+        yields = [at for at, statement in statements_in(block, ()) if statement == ("yield",)]
+        for way in [None] + yields:
             rest = rest_at(block, way)
             if not may_share or rest not in rests:
                 rests.append(rest)
@@ -211,7 +212,8 @@ def machine_of(layout, scene, codes, tokens):
             frame.token = reading.take_token()
     for slot in stand.tokens:
         slots[slot] = reading.take_token()
-    for slot in [slot for slot in slots if slots[slot] is None]:
+    empty = [slot for slot in slots if slots[slot] is None]
+    for slot in empty:
         del slots[slot]
     return machine
 
@@ -220,19 +222,19 @@ class Renaming:
     """Numbers in the order in which they are met, for contexts, tokens and marks; each dict is from old to new."""
 
     def __init__(self):
-        self.places = {}
-        self.tokens = {}
-        self.marks = {}
+        self.new_places = {}
+        self.new_tokens = {}
+        self.new_marks = {}
 
     def code(self, code):
         """What the integer is with the new numbers."""
         if code < FIRST_PLACE:
             return code
         if code >= FIRST_MARK:
-            return FIRST_MARK + self.marks.setdefault(code - FIRST_MARK, len(self.marks))
+            return FIRST_MARK + self.new_marks.setdefault(code - FIRST_MARK, len(self.new_marks))
         if code >= FIRST_GIVEN:
-            return FIRST_GIVEN + self.tokens.setdefault(code - FIRST_GIVEN, len(self.tokens))
-        return FIRST_PLACE + self.places.setdefault(code - FIRST_PLACE, len(self.places))
+            return FIRST_GIVEN + self.new_tokens.setdefault(code - FIRST_GIVEN, len(self.new_tokens))
+        return FIRST_PLACE + self.new_places.setdefault(code - FIRST_PLACE, len(self.new_places))
 
 
 class State:
@@ -242,12 +244,12 @@ class State:
         self.renaming = Renaming()
         self.rows = [[self.renaming.code(code) for code in row] for row in rows]
         self.tokens = []
-        for number in list(self.renaming.tokens):
+        for number in list(self.renaming.new_tokens):
             place, variable, old = tokens[number]
             place = self.renaming.code(FIRST_PLACE + place) - FIRST_PLACE
             self.tokens.append((place, variable, self.renaming.code(old)))
-        self.barred = [sorted(barred[FIRST_MARK + mark]) for mark in self.renaming.marks]
-        self.places = len(self.renaming.places)
+        self.barred = [sorted(barred[FIRST_MARK + mark]) for mark in self.renaming.new_marks]
+        self.places = len(self.renaming.new_places)
         self.key = self.key_with(variables)
 
     def key_with(self, variables):

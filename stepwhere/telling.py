@@ -24,7 +24,7 @@ class Ahead:
     def __init__(self, turn, place):
         self.kind = turn.kind
         self.place = place
-        self.given = []
+        self.puts = []
         self.in_use = []
         self.spent = []
         self.has_failed = turn.outcomes[0][0] == "failed"
@@ -50,9 +50,9 @@ class Story:
     def come_to(self, state, marks, places):
         """The state is the one behind what was told so far; marks and places are those of the turn ahead of it."""
         renaming = state.renaming
-        self.marks = [marks[mark] for mark in renaming.marks]
-        self.places = [places[place] for place in renaming.places]
-        self.tokens = [self.tokens[token] for token in renaming.tokens]
+        self.marks = [marks[mark] for mark in renaming.new_marks]
+        self.places = [places[place] for place in renaming.new_places]
+        self.tokens = [self.tokens[token] for token in renaming.new_tokens]
 
     def other_place(self):
         """The first context of which nothing is known in the state, perhaps a new one."""
@@ -70,7 +70,7 @@ class Story:
         world = turn.world
         for (place, variable), mark in world.given.items():
             marks.append(self.many_marks)
-            ahead.given.append((places[place], variable, self.many_marks))
+            ahead.puts.append((places[place], variable, self.many_marks))
             self.many_marks += 1
         for mark, value in world.decided.items():
             self.worths[marks[mark - FIRST_MARK]] = value
@@ -155,8 +155,8 @@ class Teller:
         for token in ahead.spent:
             steps.extend(self.inside(self.story.handing.tokens[token][0], [("reset", slot_at("t", token))]))
         for place in range(self.story.many_places):
-            puts = [self.put(variable, mark) for at, variable, mark in ahead.given if at == place]
-            steps.extend(self.inside(place, puts))
+            rows = [self.put(variable, mark) for at, variable, mark in ahead.puts if at == place]
+            steps.extend(self.inside(place, rows))
         inner = ((ahead.kind, PIECE_SLOT),)
         if ahead.has_failed and not is_last:
             inner = (("guard", inner),)
