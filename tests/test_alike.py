@@ -188,6 +188,22 @@ class TestByHand(AlikeCase):
                 ("with x 1 { guard { yield } { } }", "hold t x 1 ; yield ; reset t")):
             self.assert_parted(2, one, other)
 
+    def test_tokens_of_a_context_of_the_pieces_own(self):
+        one = "copy c ; within c { hold t x 1 } ; yield ; within c { reset t ; show x }"
+        self.assert_parted(2, one, "copy c ; within c { hold t x 1 } ; yield ; within c { show x }")
+        self.assert_alike(one, "copy c ; yield ; within c { show x }")
+        self.assert_alike(one, "copy d ; within d { hold s x 1 } ; yield ; within d { reset s ; show x }")
+        # Of a context that no slot holds any more a token comes to nothing.
+        lost = "copy c ; within c { hold t x 1 } ; copy c ; yield ; within c { reset t }"
+        self.assert_alike(lost, "copy c ; within c { hold t x 1 } ; copy c ; yield ; reset t")
+        self.assert_parted(2, lost, "copy c ; within c { hold t x 1 } ; yield ; within c { reset t }")
+        self.assert_parted(2, lost, "copy c ; within c { hold t x 1 } ; copy c ; yield ; fail")
+        # Two of them are two.
+        self.assert_parted(2, "copy c ; copy d ; within c { hold t x 1 } ; yield ; within d { reset t }",
+                           "copy c ; copy d ; within c { hold t x 1 } ; yield ; within c { reset t }")
+        self.assert_parted(2, "copy c ; within c { set x 1 } ; copy d ; yield ; within c { show x }",
+                           "copy c ; within c { set x 1 } ; copy d ; yield ; within d { show x }")
+
     def test_what_is_seen_only_far_on(self):
         self.assert_parted(3, "with x 0 { copy c } ; loop { yield ; within c { if x 3 { fail } { set x 3 } } }",
                            "loop { yield }")
@@ -237,10 +253,10 @@ class TestParams(AlikeCase):
         self.assert_book_parted(1, book)
 
     def test_in_use_around_the_current_one(self):
-        # Told apart only where c is in use and another context is the current one.
-        one = "guard { within c { set x 1 ; fail } } { if x 1 { } { within c { show y } } }"
-        other = "guard { within c { set x 1 ; fail } } { if x 1 { } { within c { show y } ; yield } }"
-        self.assert_parted(1, one, other, "c context")
+        # Behind the reset the current context is not c: told apart only where c is in use around it.
+        one = "guard { within c { } } { fail } ; hold t x 1 ; yield ; reset t"
+        for params in ("c context", "c context d context", "d context c context", "c context s token"):
+            self.assert_parted(2, one, one + " ; within c { }", params)
 
     def test_a_token(self):
         for one, other in (("reset t", ""), ("reset t", "guard { reset t } { fail }"), ("reset t", "guard { reset t } { }"),
@@ -259,6 +275,23 @@ class TestParams(AlikeCase):
         # Only what "used" does is another thing: empty and elsewhere lead to the same.
         self.assert_alike("guard { reset t ; fail } { reset t }", "guard { reset t ; fail } { guard { reset t } { reset t } }",
                           "t token")
+
+    def test_which_variable_and_context_a_token_is_of(self):
+        for variable in "xy":
+            one = f"with {variable} 3 {{ guard {{ reset t }} {{ }} ; if {variable} 3 {{ }} {{ fail }} }}"
+            other = f"with {variable} 3 {{ guard {{ reset t }} {{ }} }}"
+            self.assert_parted(1, one, other, "t token")
+            self.assert_parted(1, one, other, "s token t token")
+        # In c, and in another context than c, which is the current one behind it.
+        for params in ("c context t token", "t token c context"):
+            self.assert_parted(1, "within c { reset t ; fail }", "within c { reset t }", params)
+            self.assert_parted(1, "within c { } ; guard { within c { reset t } } { reset t ; fail }",
+                               "within c { } ; guard { within c { reset t } } { reset t }", params)
+
+    def test_two_tokens_of_one_context_and_of_two(self):
+        rows = "guard {{ reset s }} {{ fail }} ; yield ; guard {{ reset t }} {{ {} }}"
+        self.assert_parted(2, rows.format("reset t"), rows.format("set x 5"), "s token t token")
+        self.assert_parted(1, "reset s ; reset t ; fail", "reset s ; reset t", "s token t token")
 
     def test_two_params(self):
         for one, other, params in (

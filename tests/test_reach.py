@@ -156,9 +156,12 @@ class TestEnds(ReachCase):
                          "c context d context")
 
     def test_entered_by_a_context_around_the_current_one(self):
-        # In c itself x is 1 behind the first one: with x 5 there another context is the current one.
-        rows = "guard { within c { set x 1 } } { if x 5 { within c { } } { } }"
-        self.assert_ends(rows, {"closed": 1, "ended": 1, "empty": 1, "entered": 1}, "c context")
+        # The first step enters c, so its own context is another one; so is that of the second, or the reset fails.
+        rows = "guard { within c { } } { fail } ; hold t x 1 ; yield ; reset t ; within c { }"
+        told = {"closed": 1, "yielded": 1, "own": 1, "elsewhere": 2, "ended": 2, "entered": 2}
+        self.assert_ends(rows, told, "c context")
+        self.assert_ends(rows, told, "c context d context")
+        self.assert_ends(rows.replace("within c", "within d"), told, "c context d context")
 
     def test_ignored(self):
         self.assert_ends("guard { with x 1 { yield } } { yield }",
@@ -170,6 +173,11 @@ class TestEnds(ReachCase):
     def test_an_end_that_only_a_closing_brings(self):
         self.assert_ends("guard { with x 1 { loop { yield } } } { fail }", {"closed": 1, "yielded": 1, "own": 2})
         self.assert_ends("guard { with x 1 { loop { yield } } } { }", {"closed": 1, "yielded": 1, "ended": 2})
+
+    def test_an_end_that_hangs_on_what_was_not_asked(self):
+        # Only where y is 1 at the first turn can the token remember that x was unset.
+        self.assert_ends("if y 1 { } { show x } ; hold t x 0 ; yield ; reset t ; guard { show x } { fail }",
+                         {"closed": 1, "yielded": 1, "unset": 1, "elsewhere": 2, "ended": 2, "own": 2})
 
     def test_over_is_none(self):
         for rows in ("", "fail", "yield"):
