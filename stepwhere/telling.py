@@ -98,7 +98,7 @@ def story_of(search, number, last):
     story.tokens = list(range(len(handing.tokens)))
     marks = list(range(len(handing.tokens)))
     places = list(range(handing.places))
-    for number, turn in reversed(path):
+    for number, turn in reversed(list(path)):
         story.come_to(search.states[number], marks, places)
         marks, places = story.take(turn)
     story.decide()

@@ -263,6 +263,12 @@ class TestLanguage(unittest.TestCase):
                     is_self = isinstance(node.left, ast.Name) and node.left.id == "self"
                     self.assertTrue(is_self or isinstance(thing, ast.Constant), (name, node.lineno))
 
+    def test_l5_reversed(self):
+        for name, node in self.nodes(ast.Call):
+            if isinstance(node.func, ast.Name) and node.func.id == "reversed":
+                inner = node.args[0].func.id if isinstance(node.args[0], ast.Call) else None
+                self.assertIn(inner, ("list", "tuple", "sorted", "range"), (name, node.lineno))
+
     def test_l23_no_generators(self):
         for name, node in self.nodes((ast.Yield, ast.YieldFrom, ast.GeneratorExp)):
             self.fail((name, node.lineno))
