@@ -1,7 +1,8 @@
 """The search through all that programs can do with one piece, or with two, turn by turn."""
 
+from stepwhere.machine import OVER
 from stepwhere.pieces import kinds_of
-from stepwhere.states import ENDED, Layout, State, codes_of, machine_of
+from stepwhere.states import Layout, State, codes_of, machine_of
 from stepwhere.worlds import FIRST_MARK, Memo, Scene, World
 
 KINDS_OF_TURN = ("step", "close")
@@ -117,11 +118,14 @@ class Team:
         return found
 
     def state_behind(self, state, turn):
-        """The state behind a turn, or None if nothing more can be told of the pieces."""
+        """The state behind a turn that ended alike for all, or None if nothing more can be told of the pieces."""
+        # How a turn ended tells whether a piece is over: if one is, so is the other.
+        if turn.machines[0].phase == OVER:
+            return None
         rows = []
         for layout, scene, machine in zip(self.layouts, turn.scenes, turn.machines):
             rows.append(codes_of(layout, scene, machine))
-        if rows[0] == [ENDED] and rows[-1] == [ENDED] or len(rows) > 1 and rows[0] == rows[1]:
+        if len(rows) > 1 and rows[0] == rows[1]:
             return None
         tokens = [(place, variable, turn.world.worth(old)) for place, variable, old in state.tokens]
         return State(rows, tokens, turn.world.barred, self.variables)

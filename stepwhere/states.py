@@ -4,7 +4,7 @@ Two states that no program can tell apart because they are alike but for the num
 the same row; so have two in which what is left to be done, and what it uses, is the same.
 """
 
-from stepwhere.machine import OVER, STANDS, Machine, frames_at
+from stepwhere.machine import STANDS, Machine, frames_at
 from stepwhere.pieces import statements_in
 from stepwhere.worlds import FIRST_MARK, Memo
 
@@ -13,7 +13,6 @@ NOTHING = -2
 USED = -3
 LOST = -4
 HELD = -5
-ENDED = -6
 OWN_SPOT = 500
 FIRST_PLACE = 1000
 FIRST_GIVEN = 5000
@@ -26,12 +25,11 @@ class Stand:
         self.number = number
         self.block = block
         self.way = way
-        self.rest = rest
         self.contexts = slots_read(rest, "within")
         self.tokens = slots_read(rest, "reset")
 
     def begin(self, slots):
-        """A machine that stands there, without the tokens of what is around."""
+        """A machine that stands there, or is fresh, without the tokens of what is around."""
         machine = Machine(self.block, slots)
         if self.way is not None:
             machine.phase = STANDS
@@ -135,9 +133,7 @@ class Writer:
 
 
 def codes_of(layout, scene, machine):
-    """The row of a machine behind a turn, the numbers as they were in that turn."""
-    if machine.phase == OVER:
-        return [ENDED]
+    """The row of a machine that is not over, the numbers as they were in the turn ahead."""
     return Writer(scene, machine, layout.stand_of(machine)).codes
 
 
@@ -197,10 +193,6 @@ class Reading:
 
 def machine_of(layout, scene, codes, tokens):
     """The machine that a row tells, in a scene where nothing has happened."""
-    if codes[0] == ENDED:
-        machine = Machine((), {})
-        machine.phase = OVER
-        return machine
     reading = Reading(scene, codes, tokens)
     stand = layout.by_number[codes[0]]
     slots = {}

@@ -59,8 +59,7 @@ class World:
         return self.decided.get(value, value)
 
     def is_value(self, value, number):
-        """Whether a value is that number, or unset."""
-        value = self.worth(value)
+        """Whether a value, as far as it is known by now, is that number, or unset."""
         if value < FIRST_MARK:
             return value == number
         if number in self.barred[value]:
@@ -124,8 +123,8 @@ class Scene:
         return self.world.worth(self.world.value_given(spot.number, variable))
 
     def is_changed(self, place, variable):
-        """Whether the piece made something of a variable of a context of the program."""
-        return place in self.spots and variable in self.spots[place].told
+        """Whether the piece made something of a variable of a context of the program that it met."""
+        return variable in self.spots[place].told
 
     def put(self, variable, value):
         """The variable becomes that value."""

@@ -9,10 +9,12 @@ from stepwhere import alike
 from stepwhere.alike import are_alike, are_comparable, classes, parting, turns_to_part
 from stepwhere.booktexts import book_text, read_book
 from stepwhere.errors import BadBook, BadQuestion, TooGreat
+from stepwhere.forms import is_name
 from stepwhere.pieces import is_book, statements_of
 from stepwhere.play import play, play_with
 from stepwhere.programs import calls_in, need_program
 from stepwhere.programtexts import program_text, read_program
+from stepwhere.telling import PIECE_SLOT, slot_at
 
 BAD_BOOK = (("x",), (("p", (), (("nothing",),)),))
 ASKED = (are_alike, parting, turns_to_part)
@@ -204,6 +206,22 @@ class TestByHand(AlikeCase):
         self.assert_parted(2, "copy c ; within c { set x 1 } ; copy d ; yield ; within c { show x }",
                            "copy c ; within c { set x 1 } ; copy d ; yield ; within d { show x }")
 
+    def test_a_token_that_was_used_a_turn_ahead(self):
+        one = "hold t x 1 ; reset t ; yield ; reset t"
+        # It is another word of the failure alone where the token is one of another context.
+        self.assert_parted(2, one, "copy c ; within c { hold t x 1 } ; yield ; reset t")
+        self.assert_parted(2, one, "yield ; reset t")
+        self.assert_alike(one, one + " ; set x 1")
+        self.assert_alike(one, "hold s x 1 ; reset s ; yield ; guard { fail } { reset s }")
+        self.assert_alike("yield ; " + one, "yield ; hold s x 2 ; reset s ; yield ; reset s")
+
+    def test_slots_that_are_used_only_behind_a_failure(self):
+        for one, rows in (("copy c ; guard {{ yield ; fail }} {{ within c {{ {} }} }}", "show x"),
+                          ("hold t x 1 ; guard {{ yield ; fail }} {{ {} }}", "reset t")):
+            self.assert_parted(2, one.format(rows), one.format(""))
+            self.assert_parted(2, one.format(rows), one.format("fail"))
+        self.assert_alike("with x 1 { guard { yield ; fail } { } }", "with x 1 { yield }")
+
     def test_what_is_seen_only_far_on(self):
         self.assert_parted(3, "with x 0 { copy c } ; loop { yield ; within c { if x 3 { fail } { set x 3 } } }",
                            "loop { yield }")
@@ -276,6 +294,25 @@ class TestParams(AlikeCase):
         self.assert_alike("guard { reset t ; fail } { reset t }", "guard { reset t ; fail } { guard { reset t } { reset t } }",
                           "t token")
 
+    def test_a_token_that_one_of_the_two_uses(self):
+        # Nothing is another one behind the turn but that the token was used.
+        for variables, rows in (("x", "set x 5"), ("x y", "set x 5 ; set y 5"), ("x y", "drop y ; set x 0")):
+            self.assert_parted(1, "guard { reset t } { } ; " + rows, rows, "t token", variables)
+            self.assert_parted(2, "yield ; guard { reset t } { } ; " + rows, "yield ; " + rows, "t token", variables)
+            self.assert_parted(1, f"guard {{ reset s }} {{ }} ; {rows}", f"guard {{ reset t }} {{ }} ; {rows}",
+                               "s token t token", variables)
+
+    def test_a_token_that_was_used_in_a_turn_ahead(self):
+        one = "reset t ; yield ; reset t"
+        self.assert_alike(one, one + " ; set x 1", "t token")
+        self.assert_alike(one, one + " ; set x 1", "s token t token")
+        self.assert_parted(2, one, "reset t ; yield ; fail", "t token")
+        self.assert_parted(2, one, "reset t ; yield ; hold t x 1 ; reset t", "t token")
+        # Used up by the program ahead of the first turn: where the reset of s succeeds that of t cannot.
+        one = "hold s x 0 ; guard {{ reset t }} {{ yield ; reset s ; reset t {} }}"
+        self.assert_alike(one.format("; fail"), one.format(""), "t token")
+        self.assert_parted(2, one.replace("reset s ;", "").format("; fail"), one.replace("reset s ;", "").format(""), "t token")
+
     def test_which_variable_and_context_a_token_is_of(self):
         for variable in "xy":
             one = f"with {variable} 3 {{ guard {{ reset t }} {{ }} ; if {variable} 3 {{ }} {{ fail }} }}"
@@ -287,6 +324,14 @@ class TestParams(AlikeCase):
             self.assert_parted(1, "within c { reset t ; fail }", "within c { reset t }", params)
             self.assert_parted(1, "within c { } ; guard { within c { reset t } } { reset t ; fail }",
                                "within c { } ; guard { within c { reset t } } { reset t }", params)
+
+    def test_the_second_token_behind_a_turn_that_uses_the_first(self):
+        for variables, behind in (("x", "set x 5"), ("x y", "set x 5 ; drop y")):
+            rows = "guard { reset s } { } ; yield ; guard { reset t } { } ; " + behind
+            self.assert_parted(2, rows, rows.replace("guard { reset t } { } ;", ""), "s token t token", variables)
+            self.assert_parted(2, rows, rows.replace("reset t", "reset s"), "s token t token", variables)
+            self.assert_parted(2, "guard { reset s } { } ; yield ; reset t", "guard { reset s } { } ; yield ; fail",
+                               "s token t token", variables)
 
     def test_two_tokens_of_one_context_and_of_two(self):
         rows = "guard {{ reset s }} {{ fail }} ; yield ; guard {{ reset t }} {{ {} }}"
@@ -321,6 +366,16 @@ class TestParams(AlikeCase):
         for params in ("c context", "t token", "c context d context", "s token t token", "c context t token"):
             self.assert_alike("", "guard { } { }", params)
             self.assert_parted(1, "", "fail", params)
+
+
+class TestSlots(unittest.TestCase):
+
+    def test_slots_of_many_numbers_are_different_names(self):
+        slots = [slot_at(letter, number) for letter in "ctn" for number in range(2000)]
+        self.assertEqual(len(set(slots)), len(slots))
+        self.assertNotIn(PIECE_SLOT, slots)
+        for slot in slots:
+            self.assertTrue(is_name(slot), slot)
 
 
 class TestTheBook(AlikeCase):

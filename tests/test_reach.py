@@ -141,6 +141,40 @@ class TestEnds(ReachCase):
         self.assert_ends("guard { reset t ; yield } { } ; reset t",
                          {"closed": 1, "yielded": 1, "empty": 1, "used": 1, "elsewhere": 1}, "t token")
 
+    def test_used_in_a_turn_ahead(self):
+        self.assert_ends("hold t x 1 ; reset t ; yield ; reset t", {"closed": 1, "yielded": 1, "used": 2})
+        self.assert_ends("copy c ; within c { hold t x 1 } ; yield ; reset t", {"closed": 1, "yielded": 1, "elsewhere": 2})
+        self.assert_ends("copy c ; within c { hold t x 1 ; reset t } ; yield ; within c { reset t }",
+                         {"closed": 1, "yielded": 1, "used": 2})
+        self.assert_ends("reset t ; yield ; reset t",
+                         {"closed": 1, "yielded": 1, "empty": 1, "used": 1, "elsewhere": 1}, "t token")
+        self.assert_ends("guard { reset t } { fail } ; yield ; reset t",
+                         {"closed": 1, "yielded": 1, "own": 1, "used": 2}, "t token")
+        # What was used up ahead of the first turn stays so: where the reset of s succeeds that of t cannot.
+        self.assert_ends("hold s x 0 ; guard { reset t } { yield ; reset s ; reset t ; fail }",
+                         {"closed": 1, "yielded": 1, "ended": 1, "empty": 2, "elsewhere": 2, "used": 2}, "t token")
+
+    def test_the_second_token_behind_a_turn_that_uses_the_first(self):
+        told = {"closed": 1, "yielded": 1, "ended": 2, "empty": 2, "elsewhere": 2, "used": 2}
+        self.assert_ends("guard { reset s } { } ; yield ; reset t", told, "s token t token")
+        self.assert_ends("guard { reset t } { } ; yield ; reset s", told, "s token t token")
+        self.assert_ends("guard { reset s } { } ; yield ; reset t", told, "t token s token", "x")
+        self.assert_ends("reset s ; yield ; guard { reset t } { fail }",
+                         {"closed": 1, "yielded": 1, "empty": 1, "elsewhere": 1, "used": 1, "own": 2, "ended": 2},
+                         "s token t token")
+
+    def test_values_that_differ_from_all_integers_of_the_piece(self):
+        self.assert_ends("if x 99 { } { if y 99 { } { if x 98 { } { if y 98 { } { fail } } } }",
+                         {"closed": 1, "ended": 1, "own": 1})
+        self.assert_ends("if x 99 { } { yield ; if x 99 { } { if y 98 { } { yield ; if x 97 { } { fail } } } }",
+                         {"closed": 1, "ended": 1, "yielded": 1, "own": 3})
+
+    def test_what_a_slot_holds_behind_a_failure_a_turn_later(self):
+        self.assert_ends("copy c ; guard { yield ; fail } { within c { } }", {"closed": 1, "yielded": 1, "ended": 2})
+        self.assert_ends("hold t x 1 ; guard { yield ; fail } { reset t }",
+                         {"closed": 1, "yielded": 1, "elsewhere": 2, "ended": 2})
+        self.assert_ends("copy c ; loop { within c { } ; yield }", {"closed": 1, "yielded": 1})
+
     def test_elsewhere(self):
         self.assert_ends("with x 1 { yield }", {"closed": 1, "yielded": 1, "ended": 2, "elsewhere": 2})
         self.assert_ends("with x 1 { }", {"closed": 1, "ended": 1})
