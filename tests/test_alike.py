@@ -328,6 +328,9 @@ class TestParams(AlikeCase):
     def test_the_second_token_behind_a_turn_that_uses_the_first(self):
         for variables, behind in (("x", "set x 5"), ("x y", "set x 5 ; drop y")):
             rows = "guard { reset s } { } ; yield ; guard { reset t } { } ; " + behind
+            # Here both are handed over: the program tries the second one, the first is used in any case.
+            self.assert_parted(2, "reset s ; yield ; guard { reset t } { } ; " + behind, "reset s ; yield ; " + behind,
+                               "s token t token", variables)
             self.assert_parted(2, rows, rows.replace("guard { reset t } { } ;", ""), "s token t token", variables)
             self.assert_parted(2, rows, rows.replace("reset t", "reset s"), "s token t token", variables)
             self.assert_parted(2, "guard { reset s } { } ; yield ; reset t", "guard { reset s } { } ; yield ; fail",
